@@ -13,6 +13,7 @@ import (
 
 	"deckle/api"
 	"deckle/array"
+	"deckle/probe"
 	"deckle/tight"
 )
 
@@ -24,51 +25,18 @@ var (
 	beyond = api.Dec{Man: 1, Exp: 19}
 )
 
+// The arrays of one node, and those with kids.
+var (
+	bools, ints, chars, decs = probe.Bools, probe.Ints, probe.Chars, probe.Decs
+	nest, wrapped            = probe.Nest, probe.Wrapped
+)
+
 // of is a row of count numbers, all of them n.
 func of(count, n int) []int { return slices.Repeat([]int{n}, count) }
-
-// flat is an array of one node with Ints.
-func flat(kind int, s []int, l ...int) []api.Node {
-	return []api.Node{{Kind: kind, Shape: s, Ints: l}}
-}
-
-// bools, ints, chars and decs are arrays of one node of these kinds.
-func bools(s []int, l ...int) []api.Node { return flat(api.KindBool, s, l...) }
-func ints(s []int, l ...int) []api.Node  { return flat(api.KindInt, s, l...) }
-func chars(s []int, l ...int) []api.Node { return flat(api.KindChar, s, l...) }
-func decs(s []int, l ...api.Dec) []api.Node {
-	return []api.Node{{Kind: api.KindDec, Shape: s, Decs: l}}
-}
-
-// nest is a node of KindNest, and these rows behind it, right or not.
-func nest(s []int, kids ...[]api.Node) []api.Node {
-	return append([]api.Node{{Kind: api.KindNest, Shape: s}}, slices.Concat(kids...)...)
-}
-
-// wrapped is a inside as many nodes of KindNest and that shape.
-func wrapped(count int, s []int, a []api.Node) []api.Node {
-	return append(slices.Repeat(nest(s), count), a...)
-}
 
 // deep is text inside as many brackets as wrapped has nodes of no Shape.
 func deep(count int, text string) string {
 	return strings.Repeat("⊂(", count) + text + strings.Repeat(")", count)
-}
-
-// plain is a in new memory.
-func plain(a []api.Node) []api.Node {
-	var row []api.Node
-	for _, n := range a {
-		row = append(row, api.Node{Kind: n.Kind, Shape: slices.Clone(n.Shape), Ints: slices.Clone(n.Ints), Decs: slices.Clone(n.Decs)})
-	}
-	return row
-}
-
-// alike tells if a and b are the same, a nil list and an empty one too (W5).
-func alike(a, b []api.Node) bool {
-	return slices.EqualFunc(a, b, func(x, y api.Node) bool {
-		return x.Kind == y.Kind && slices.Equal(x.Shape, y.Shape) && slices.Equal(x.Ints, y.Ints) && slices.Equal(x.Decs, y.Decs)
-	})
 }
 
 // brief is a, or how long it is where it is too long to be told.
@@ -301,7 +269,7 @@ func checkText(t *testing.T, a []api.Node, want string) {
 // checkRead tells that Parse of s is want.
 func checkRead(t *testing.T, s string, want []api.Node) {
 	t.Helper()
-	if a, ok := Parse(s); !ok || !alike(a, want) {
+	if a, ok := Parse(s); !ok || !probe.Alike(a, want) {
 		t.Errorf("Parse of %s: %v, %v, not %v", briefText(s), brief(a), ok, brief(want))
 	}
 }
@@ -338,24 +306,13 @@ func checkModel(t *testing.T, s string) bool {
 	t.Helper()
 	want, is := modelParse(s)
 	a, ok := Parse(s)
-	if ok != is || !alike(a, want) {
+	if ok != is || !probe.Alike(a, want) {
 		t.Errorf("Parse of %s: %v, %v, not %v, %v", briefText(s), brief(a), ok, brief(want), is)
 	}
 	if ok && Text(a) != s {
 		t.Errorf("Text of what %s is: %s", briefText(s), briefText(Text(a)))
 	}
 	return is
-}
-
-// walk hands on all rows of up to left more parts.
-func walk[T any](l, parts []T, left int, see func([]T)) {
-	see(l)
-	if left == 0 {
-		return
-	}
-	for _, x := range parts {
-		walk(append(slices.Clone(l), x), parts, left-1, see)
-	}
 }
 
 func TestExample(t *testing.T) { // P14.1, P14.2, P14.4
@@ -377,7 +334,7 @@ func TestAlone(t *testing.T) { // P14.1, P14.2, P14.4
 	for s, a := range alone() {
 		checkBoth(t, a, s)
 		for _, shape := range [][]int{{1}, {1, 1}, of(16, 1)} {
-			b := plain(a)
+			b := probe.Plain(a)
 			b[0].Shape = shape
 			checkBoth(t, b, modelRow(shape, strconv.Itoa)+"⍴"+s)
 		}
@@ -608,10 +565,10 @@ func TestAllTexts(t *testing.T) { // P14.2, P14.4
 			count++
 		}
 	}
-	walk(nil, []string{"0", "1", "2", " ", "E", "¯", "⍴", "⊂", "(", ")", "'", "a"}, 5, see)
-	walk(nil, []string{"0", "1", "2", " ", "⍴", "'"}, 7, see)
-	walk(nil, []string{"1⍴", "⊂", "(", ")", "0", "'a'"}, 7, see)
-	walk(nil, []string{"2⍴", "0⍴", "(5)", "('a')", "⊂(", "('", "')", "(", ")", "''", "2 2⍴", "7 8"}, 5, see)
+	probe.Walk(nil, []string{"0", "1", "2", " ", "E", "¯", "⍴", "⊂", "(", ")", "'", "a"}, 5, see)
+	probe.Walk(nil, []string{"0", "1", "2", " ", "⍴", "'"}, 7, see)
+	probe.Walk(nil, []string{"1⍴", "⊂", "(", ")", "0", "'a'"}, 7, see)
+	probe.Walk(nil, []string{"2⍴", "0⍴", "(5)", "('a')", "⊂(", "('", "')", "(", ")", "''", "2 2⍴", "7 8"}, 5, see)
 	if count < 300 {
 		t.Errorf("only %d notations", count)
 	}
@@ -629,8 +586,8 @@ func TestAllArrays(t *testing.T) { // P14.1, P14.2, P14.4
 		checkText(t, a, modelText(a))
 		checkRead(t, modelText(a), a)
 	}
-	walk(nil, slices.Concat(bools(nil, 1), ints(nil, 7), chars(nil, '\''), decs(nil, half), ints([]int{1}, 100), chars([]int{0}), nest(nil), nest([]int{2})), 5, see)
-	walk(nil, slices.Concat(ints([]int{0}), chars(nil, ')'), nest(nil), nest([]int{2, 1}), nest([]int{3})), 7, see)
+	probe.Walk(nil, slices.Concat(bools(nil, 1), ints(nil, 7), chars(nil, '\''), decs(nil, half), ints([]int{1}, 100), chars([]int{0}), nest(nil), nest([]int{2})), 5, see)
+	probe.Walk(nil, slices.Concat(ints([]int{0}), chars(nil, ')'), nest(nil), nest([]int{2, 1}), nest([]int{3})), 7, see)
 	if count < 1000 {
 		t.Errorf("only %d tight arrays", count)
 	}
@@ -690,80 +647,17 @@ func samples() [][]api.Node {
 	}
 }
 
-// roomyList is a copy of l with spare room behind it, all of which is x.
-func roomyList[T any](l []T, x T) []T { return slices.Concat(l, []T{x, x, x})[:len(l)] }
-
-// roomy is a copy of a with spare room behind each list.
-func roomy(a []api.Node) []api.Node {
-	row := roomyList(a, ints([]int{1}, 70)[0])
-	for k, n := range row[:cap(row)] {
-		row[:cap(row)][k] = api.Node{Kind: n.Kind, Shape: roomyList(n.Shape, 77), Ints: roomyList(n.Ints, 78), Decs: roomyList(n.Decs, api.Dec{Man: 79})}
-	}
-	return row
-}
-
-// snapshot is all that a holds, the spare room too.
-func snapshot(a []api.Node) []api.Node {
-	var all []api.Node
-	for _, n := range a[:cap(a)] {
-		all = append(all, api.Node{Kind: n.Kind, Shape: n.Shape[:cap(n.Shape)], Ints: n.Ints[:cap(n.Ints)], Decs: n.Decs[:cap(n.Decs)]})
-	}
-	return plain(all)
-}
-
-// fill makes each item of a list x, the spare room too.
-func fill[T any](l []T, x T) {
-	for k := range l[:cap(l)] {
-		l[:cap(l)][k] = x
-	}
-}
-
-// turn makes all that a holds something else, the spare room too.
-func turn(a []api.Node) {
-	for _, n := range a[:cap(a)] {
-		fill(n.Shape, -50)
-		fill(n.Ints, -51)
-		fill(n.Decs, api.Dec{Man: -52, Exp: -53})
-	}
-	fill(a, api.Node{Kind: -54})
-}
-
-// cellsOf is where the items of a list lie, the spare room too.
-func cellsOf[T any](l []T) []any {
-	var cells []any
-	for k := range l[:cap(l)] {
-		cells = append(cells, &l[:cap(l)][k])
-	}
-	return cells
-}
-
-// apart tells if no two lists of the rows share memory.
-func apart(rows ...[]api.Node) bool {
-	var cells []any
-	for _, a := range rows {
-		cells = append(cells, cellsOf(a)...)
-		for _, n := range a[:cap(a)] {
-			cells = slices.Concat(cells, cellsOf(n.Shape), cellsOf(n.Ints), cellsOf(n.Decs))
-		}
-	}
-	seen := map[any]bool{}
-	for _, c := range cells {
-		seen[c] = true
-	}
-	return len(seen) == len(cells)
-}
-
 // TestUnchanged: Text changes neither an array nor its spare room, whether it is tight or not, and keeps none of it.
 func TestUnchanged(t *testing.T) { // P14.3
 	for _, was := range slices.Concat(samples(), [][]api.Node{nil, ints(nil, 1), nest(nil, ints(nil, 7)), nest([]int{2}, ints(nil, 7)), nest([]int{0}), decs([]int{2}, api.Dec{}, api.Dec{Man: 1})}) {
-		a := roomy(was)
-		all := snapshot(a)
+		a := probe.Roomy(was)
+		all := probe.Snapshot(a)
 		s := Text(a)
 		want := strings.Clone(s)
-		if !alike(snapshot(a), all) || len(a) != len(was) {
+		if !probe.Alike(probe.Snapshot(a), all) || len(a) != len(was) {
 			t.Errorf("Text changed %v", was)
 		}
-		turn(a)
+		probe.Turn(a)
 		if s != want || Text(was) != want {
 			t.Errorf("turning %v turned its text: %q, %q, not %q", was, s, Text(was), want)
 		}
@@ -778,17 +672,17 @@ func TestNewMemory(t *testing.T) { // P14.3
 		if string(bytes) != Text(want) {
 			t.Errorf("Parse changed %q", Text(want))
 		}
-		fill(bytes, '#')
-		if !alike(first, want) {
+		probe.Fill(bytes, '#')
+		if !probe.Alike(first, want) {
 			t.Errorf("turning the text turned what Parse answered: %v, not %v", first, want)
 		}
 		second, _ := Parse(Text(want))
-		if !apart(plain(want), first, second) {
+		if !probe.Apart(probe.Plain(want), first, second) {
 			t.Errorf("Parse of %q shares memory", Text(want))
 		}
-		turn(first)
+		probe.Turn(first)
 		third, ok := Parse(Text(want))
-		if !ok || !alike(second, want) || !alike(third, want) {
+		if !ok || !probe.Alike(second, want) || !probe.Alike(third, want) {
 			t.Errorf("turning what Parse of %q answered turned what it answers", Text(want))
 		}
 	}
@@ -797,7 +691,7 @@ func TestNewMemory(t *testing.T) { // P14.3
 // TestEmptyLists: an empty list is the same as a nil one (W5).
 func TestEmptyLists(t *testing.T) { // P14.1
 	for _, was := range samples() {
-		a := plain(was)
+		a := probe.Plain(was)
 		for k, n := range a {
 			a[k] = api.Node{Kind: n.Kind, Shape: append([]int{}, n.Shape...), Ints: append([]int{}, n.Ints...), Decs: append([]api.Dec{}, n.Decs...)}
 		}

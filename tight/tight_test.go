@@ -8,6 +8,7 @@ import (
 
 	"deckle/api"
 	"deckle/array"
+	"deckle/probe"
 )
 
 const most = 1 << 20
@@ -19,47 +20,14 @@ var (
 	over   = api.Dec{Man: 922337203685477581, Exp: 1}
 )
 
+// The arrays of one node, and those with kids.
+var (
+	bools, ints, chars, decs = probe.Bools, probe.Ints, probe.Chars, probe.Decs
+	nest, wrapped            = probe.Nest, probe.Wrapped
+)
+
 // of is a row of count numbers, all of them n.
 func of(count, n int) []int { return slices.Repeat([]int{n}, count) }
-
-// flat is an array of one node with Ints.
-func flat(kind int, s []int, l ...int) []api.Node {
-	return []api.Node{{Kind: kind, Shape: s, Ints: l}}
-}
-
-// bools, ints, chars and decs are arrays of one node of these kinds.
-func bools(s []int, l ...int) []api.Node { return flat(api.KindBool, s, l...) }
-func ints(s []int, l ...int) []api.Node  { return flat(api.KindInt, s, l...) }
-func chars(s []int, l ...int) []api.Node { return flat(api.KindChar, s, l...) }
-func decs(s []int, l ...api.Dec) []api.Node {
-	return []api.Node{{Kind: api.KindDec, Shape: s, Decs: l}}
-}
-
-// nest is a node of KindNest, and these rows behind it, right or not.
-func nest(s []int, kids ...[]api.Node) []api.Node {
-	return append([]api.Node{{Kind: api.KindNest, Shape: s}}, slices.Concat(kids...)...)
-}
-
-// wrapped is a inside as many nodes of KindNest and that shape.
-func wrapped(count int, s []int, a []api.Node) []api.Node {
-	return append(slices.Repeat(nest(s), count), a...)
-}
-
-// plain is a in new memory.
-func plain(a []api.Node) []api.Node {
-	var row []api.Node
-	for _, n := range a {
-		row = append(row, api.Node{Kind: n.Kind, Shape: slices.Clone(n.Shape), Ints: slices.Clone(n.Ints), Decs: slices.Clone(n.Decs)})
-	}
-	return row
-}
-
-// alike tells if a and b are the same, a nil list and an empty one too (W5).
-func alike(a, b []api.Node) bool {
-	return slices.EqualFunc(a, b, func(x, y api.Node) bool {
-		return x.Kind == y.Kind && slices.Equal(x.Shape, y.Shape) && slices.Equal(x.Ints, y.Ints) && slices.Equal(x.Decs, y.Decs)
-	})
-}
 
 // brief is a, or how long it is where it is too long to be told.
 func brief(a []api.Node) any {
@@ -173,17 +141,6 @@ func modelMake(a []api.Node) ([]api.Node, bool) {
 	return row, true
 }
 
-// walk hands on all rows of up to left more parts.
-func walk[T any](l, parts []T, left int, see func([]T)) {
-	see(l)
-	if left == 0 {
-		return
-	}
-	for _, x := range parts {
-		walk(append(slices.Clone(l), x), parts, left-1, see)
-	}
-}
-
 // checkNumbers tells that Numbers answers a node of that kind, which has these Ints, or else l itself.
 func checkNumbers(t *testing.T, s []int, l []api.Dec, kind int, whole ...int) {
 	t.Helper()
@@ -192,7 +149,7 @@ func checkNumbers(t *testing.T, s []int, l []api.Dec, kind int, whole ...int) {
 		want.Decs = l
 	}
 	got, ok := Numbers(s, l)
-	if !ok || !alike([]api.Node{got}, []api.Node{want}) {
+	if !ok || !probe.Alike([]api.Node{got}, []api.Node{want}) {
 		t.Errorf("Numbers of %v and %v: %v, %v, not %v", s, l, got, ok, want)
 	}
 	if !Right([]api.Node{got}) {
@@ -203,7 +160,7 @@ func checkNumbers(t *testing.T, s []int, l []api.Dec, kind int, whole ...int) {
 // checkNoNumbers tells that Numbers answers a zero node, and false.
 func checkNoNumbers(t *testing.T, s []int, l []api.Dec) {
 	t.Helper()
-	if got, ok := Numbers(s, l); ok || !alike([]api.Node{got}, make([]api.Node, 1)) {
+	if got, ok := Numbers(s, l); ok || !probe.Alike([]api.Node{got}, make([]api.Node, 1)) {
 		t.Errorf("Numbers of %v and %d numbers: %v, %v", s, len(l), got, ok)
 	}
 }
@@ -212,14 +169,14 @@ func checkNoNumbers(t *testing.T, s []int, l []api.Dec) {
 func checkMake(t *testing.T, a, want []api.Node) {
 	t.Helper()
 	got, ok := Make(a)
-	if !ok || !alike(got, want) {
+	if !ok || !probe.Alike(got, want) {
 		t.Errorf("Make of %v: %v, %v, not %v", brief(a), brief(got), ok, brief(want))
 		return
 	}
-	if Right(a) != alike(a, want) {
+	if Right(a) != probe.Alike(a, want) {
 		t.Errorf("Right of %v: %v", brief(a), Right(a))
 	}
-	if again, ok := Make(got); !ok || !alike(again, got) || !Right(got) || !array.Right(got) {
+	if again, ok := Make(got); !ok || !probe.Alike(again, got) || !Right(got) || !array.Right(got) {
 		t.Errorf("Make of %v is not tight: %v, and then %v", brief(a), brief(got), brief(again))
 	}
 	if len(got) > len(a) || array.Items(got) > array.Items(a) || array.Depth(got) > array.Depth(a) {
@@ -327,7 +284,7 @@ func TestNumbersCount(t *testing.T) {
 			checkNoNumbers(t, s, l[:count-1])
 			got, ok := Numbers(s, l[:count])
 			want, _ := modelNumbers(s, l[:count])
-			if !ok || !alike([]api.Node{got}, []api.Node{want}) {
+			if !ok || !probe.Alike([]api.Node{got}, []api.Node{want}) {
 				t.Errorf("Numbers of %v: kind %d, %v", s, got.Kind, ok)
 			}
 		}
@@ -362,11 +319,11 @@ func TestNumbersWrong(t *testing.T) {
 // TestAllNumbers holds Numbers against the model, of all short rows of telling numbers.
 func TestAllNumbers(t *testing.T) {
 	shapes := [][]int{nil, {0}, {1}, {2}, {3}, {4}, {2, 2}, {1, 3}, {3, 0}, {-1}, {-1, -2}}
-	walk(nil, []api.Dec{{}, {Man: 1}, {Man: -1}, {Man: 1, Exp: 1}, half, over, {Man: 10}, {Exp: 1}}, 4, func(l []api.Dec) {
+	probe.Walk(nil, []api.Dec{{}, {Man: 1}, {Man: -1}, {Man: 1, Exp: 1}, half, over, {Man: 10}, {Exp: 1}}, 4, func(l []api.Dec) {
 		for _, s := range shapes {
 			got, ok := Numbers(s, l)
 			want, right := modelNumbers(s, l)
-			if ok != right || !alike([]api.Node{got}, []api.Node{want}) {
+			if ok != right || !probe.Alike([]api.Node{got}, []api.Node{want}) {
 				t.Errorf("Numbers of %v and %v: %v, %v, not %v", s, l, got, ok, want)
 			}
 		}
@@ -558,8 +515,8 @@ func TestAllRows(t *testing.T) {
 		}
 		checkModel(t, a)
 	}
-	walk(nil, slices.Concat(ints(nil, 1), ints(nil, 7), chars(nil, 1), decs(nil, half), ints([]int{1}, 1), nest(nil), nest([]int{2}), nest([]int{0})), 5, see)
-	walk(nil, slices.Concat(ints(nil, 2), chars(nil, 'a'), nest(nil), nest([]int{2, 1}), nest([]int{3})), 7, see)
+	probe.Walk(nil, slices.Concat(ints(nil, 1), ints(nil, 7), chars(nil, 1), decs(nil, half), ints([]int{1}, 1), nest(nil), nest([]int{2}), nest([]int{0})), 5, see)
+	probe.Walk(nil, slices.Concat(ints(nil, 2), chars(nil, 'a'), nest(nil), nest([]int{2, 1}), nest([]int{3})), 7, see)
 	if count < 2000 {
 		t.Errorf("only %d right arrays", count)
 	}
@@ -576,90 +533,27 @@ func samples() [][]api.Node {
 	}
 }
 
-// roomyList is a copy of l with spare room behind it, all of which is x.
-func roomyList[T any](l []T, x T) []T { return slices.Concat(l, []T{x, x, x})[:len(l)] }
-
-// roomy is a copy of a with spare room behind each list; that of the row holds nodes, too.
-func roomy(a []api.Node) []api.Node {
-	row := roomyList(a, ints([]int{1}, 70)[0])
-	for k, n := range row[:cap(row)] {
-		row[:cap(row)][k] = api.Node{Kind: n.Kind, Shape: roomyList(n.Shape, 77), Ints: roomyList(n.Ints, 78), Decs: roomyList(n.Decs, api.Dec{Man: 79})}
-	}
-	return row
-}
-
-// snapshot is all that a holds, the spare room too.
-func snapshot(a []api.Node) []api.Node {
-	var all []api.Node
-	for _, n := range a[:cap(a)] {
-		all = append(all, api.Node{Kind: n.Kind, Shape: n.Shape[:cap(n.Shape)], Ints: n.Ints[:cap(n.Ints)], Decs: n.Decs[:cap(n.Decs)]})
-	}
-	return plain(all)
-}
-
-// fill makes each item of a list x, the spare room too.
-func fill[T any](l []T, x T) {
-	for k := range l[:cap(l)] {
-		l[:cap(l)][k] = x
-	}
-}
-
-// turn makes all that a holds something else, the spare room too.
-func turn(a []api.Node) {
-	for _, n := range a[:cap(a)] {
-		fill(n.Shape, -50)
-		fill(n.Ints, -51)
-		fill(n.Decs, api.Dec{Man: -52, Exp: -53})
-	}
-	fill(a, api.Node{Kind: -54})
-}
-
-// cellsOf is where the items of a list lie, the spare room too.
-func cellsOf[T any](l []T) []any {
-	var cells []any
-	for k := range l[:cap(l)] {
-		cells = append(cells, &l[:cap(l)][k])
-	}
-	return cells
-}
-
-// apart tells if no two lists of the rows share memory.
-func apart(rows ...[]api.Node) bool {
-	var cells []any
-	for _, a := range rows {
-		cells = append(cells, cellsOf(a)...)
-		for _, n := range a[:cap(a)] {
-			cells = slices.Concat(cells, cellsOf(n.Shape), cellsOf(n.Ints), cellsOf(n.Decs))
-		}
-	}
-	seen := map[any]bool{}
-	for _, c := range cells {
-		seen[c] = true
-	}
-	return len(seen) == len(cells)
-}
-
 // TestUnchanged: neither what is handed in is changed, nor its spare room, by a call or by turning what it answers.
 func TestUnchanged(t *testing.T) {
 	for _, was := range samples() {
-		a := roomy(was)
-		all := snapshot(a)
+		a := probe.Roomy(was)
+		all := probe.Snapshot(a)
 		Right(a)
 		form, _ := Make(a)
-		if !alike(snapshot(a), all) || len(a) != len(was) {
+		if !probe.Alike(probe.Snapshot(a), all) || len(a) != len(was) {
 			t.Errorf("Make or Right changed %v", was)
 		}
-		turn(form)
-		if !alike(snapshot(a), all) {
+		probe.Turn(form)
+		if !probe.Alike(probe.Snapshot(a), all) {
 			t.Errorf("turning what Make answers changed %v", was)
 		}
 	}
 	for _, l := range numberSamples() {
-		n := roomy([]api.Node{{Shape: []int{len(l)}, Decs: l}})
-		all := snapshot(n)
+		n := probe.Roomy([]api.Node{{Shape: []int{len(l)}, Decs: l}})
+		all := probe.Snapshot(n)
 		got, _ := Numbers(n[0].Shape, n[0].Decs)
-		turn([]api.Node{got})
-		if !alike(snapshot(n), all) {
+		probe.Turn([]api.Node{got})
+		if !probe.Alike(probe.Snapshot(n), all) {
 			t.Errorf("Numbers changed %v", l)
 		}
 	}
@@ -673,19 +567,19 @@ func numberSamples() [][]api.Dec {
 // TestNewMemory: no list of an answer shares memory with what was handed in, nor with another one of the answer.
 func TestNewMemory(t *testing.T) {
 	for _, was := range samples() {
-		a := roomy(was)
+		a := probe.Roomy(was)
 		first, _ := Make(a)
 		second, _ := Make(a)
 		again, _ := Make(first)
-		if !apart(a, first, second, again) {
+		if !probe.Apart(a, first, second, again) {
 			t.Errorf("Make of %v shares memory", was)
 		}
 	}
 	for _, l := range numberSamples() {
-		n := roomy([]api.Node{{Shape: []int{len(l)}, Decs: l}})
+		n := probe.Roomy([]api.Node{{Shape: []int{len(l)}, Decs: l}})
 		first, _ := Numbers(n[0].Shape, n[0].Decs)
 		second, _ := Numbers(n[0].Shape, n[0].Decs)
-		if !apart(n, []api.Node{first}, []api.Node{second}) {
+		if !probe.Apart(n, []api.Node{first}, []api.Node{second}) {
 			t.Errorf("Numbers of %v share memory", l)
 		}
 	}
@@ -695,7 +589,7 @@ func TestNewMemory(t *testing.T) {
 		ints(two[:1], two...), chars(two[:1], two...), nest(two[:1], ints(two[:1], two...), chars(two[:1], two...)), nest(two[:1], slices.Repeat(ints(two[:1], two...), 2)), nest(two, slices.Repeat(decs(two, three...), 4)), nest(two, slices.Repeat(ints(nil, two[0]), 4)), nest(two, slices.Repeat(chars(nil, two[:1]...), 4)), nest(two[:1], chars(nil, two[1:]...), ints(nil, two[1:]...)),
 	} {
 		form, ok := Make(a)
-		if !ok || !apart(form, []api.Node{{Shape: two, Decs: three}}) {
+		if !ok || !probe.Apart(form, []api.Node{{Shape: two, Decs: three}}) {
 			t.Errorf("Make of %v shares memory", a)
 		}
 	}
@@ -704,21 +598,21 @@ func TestNewMemory(t *testing.T) {
 // TestNotKept: what is handed in may be changed later on, and so may what was answered.
 func TestNotKept(t *testing.T) {
 	for _, was := range samples() {
-		a := roomy(was)
+		a := probe.Roomy(was)
 		form, ok := Make(a)
 		other, _ := Make(a)
-		want := plain(form)
+		want := probe.Plain(form)
 		right := Right(a)
-		turn(a)
-		if !alike(form, want) {
+		probe.Turn(a)
+		if !probe.Alike(form, want) {
 			t.Errorf("turning %v turned what Make answered", was)
 		}
-		turn(other)
-		if !alike(form, want) {
+		probe.Turn(other)
+		if !probe.Alike(form, want) {
 			t.Errorf("turning what Make of %v answered turned what it answered then", was)
 		}
-		turn(form)
-		if again, still := Make(was); still != ok || !alike(again, want) || Right(was) != right {
+		probe.Turn(form)
+		if again, still := Make(was); still != ok || !probe.Alike(again, want) || Right(was) != right {
 			t.Errorf("Make of %v again: %v, %v", was, again, still)
 		}
 	}
@@ -726,9 +620,9 @@ func TestNotKept(t *testing.T) {
 		s, kept := []int{len(l)}, slices.Clone(l)
 		n, _ := Numbers(s, kept)
 		want, _ := modelNumbers([]int{len(l)}, l)
-		fill(s, -1)
-		fill(kept, api.Dec{Man: -1})
-		if !alike([]api.Node{n}, []api.Node{want}) {
+		probe.Fill(s, -1)
+		probe.Fill(kept, api.Dec{Man: -1})
+		if !probe.Alike([]api.Node{n}, []api.Node{want}) {
 			t.Errorf("turning %v turned what Numbers answered: %v", l, n)
 		}
 	}
